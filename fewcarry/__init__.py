@@ -1,0 +1,1 @@
+"""Fewcarry: few rows that carry a whole table."""

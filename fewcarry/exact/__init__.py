@@ -1,0 +1,1 @@
+"""Exact numbers: fractions, spans of them, and the errors of the program."""

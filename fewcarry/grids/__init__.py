@@ -1,0 +1,1 @@
+"""Grids: tables of fractions, and what is computed from them without rounding."""

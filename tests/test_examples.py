@@ -1,0 +1,41 @@
+"""The examples of the document that need nothing but exact numbers and grids."""
+
+import unittest
+
+from fewcarry.exact.errors import BadNumber
+from fewcarry.exact.ratio import Ratio
+from fewcarry.exact.simplest import simplest
+from fewcarry.exact.span import Span
+
+
+class Examples(unittest.TestCase):
+    def test_ratio(self):
+        a = Ratio(6, -8)
+        b = Ratio.read('5/6')
+        c = a + b
+        self.assertEqual([a.top, a.bottom, c.text(), a.divided(b).text(), a.compare(b)],
+                         [-3, 4, '1/12', '-9/10', -1])
+
+    def test_read(self):
+        with self.assertRaises(BadNumber) as caught:
+            Ratio.read('6/4')
+        self.assertEqual(caught.exception.given, '6/4')
+
+    def test_simplest(self):
+        a = simplest(Ratio(5, 17), Ratio(3, 8))
+        b = simplest(Ratio(5, 2), Ratio(17, 4))
+        c = simplest(Ratio(-9, 7), Ratio(-6, 5))
+        self.assertEqual([a.text(), b.text(), c.text()], ['1/3', '3', '-5/4'])
+
+    def test_span(self):
+        a = Span(Ratio(-1), Ratio(2))
+        b = Span(Ratio(3), Ratio(4))
+        c = a * b
+        d = b - a
+        self.assertEqual(
+            [c.text(), d.text(), b.divided(Span.point(Ratio(2))).text(), a.at_most(b), b.at_most(a), a.at_most(a)],
+            ['[-4, 8]', '[1, 5]', '[3/2, 2]', True, False, None])
+
+
+if __name__ == "__main__":
+    unittest.main()

@@ -28,7 +28,9 @@ def eliminated(rows, width):
             continue
         if found > done:
             # An exchange changes the sign of the determinant, and the minus changes it back.
-            table[done], table[found] = table[found], [-number for number in table[done]]
+            given_up = [-number for number in table[done]]
+            table[done] = table[found]
+            table[found] = given_up
         base = table[done]
         table = [row if k == done else _cleared(row, base, column, pivot) for k, row in enumerate(table)]
         pivot = base[column]

@@ -1,8 +1,12 @@
 """What several tests need."""
 
 from fractions import Fraction
+from itertools import product
 from random import Random
 
+from fewcarry.books.book import Book
+from fewcarry.books.load import Load
+from fewcarry.exact.errors import CarryError
 from fewcarry.exact.ratio import Ratio
 from fewcarry.exact.span import Span
 from fewcarry.grids.grid import Grid
@@ -71,3 +75,50 @@ def random_grids(seed, many, height, width, most=4, mosts_over=6):
              random.randint(1, mosts_over))
         for _ in range(many)
     ]
+
+
+def failure(call, *given):
+    """The class of the error of a call, and its fields as a dict."""
+    try:
+        call(*given)
+    except CarryError as error:
+        return error.__class__, vars(error)
+    raise AssertionError("no error")
+
+
+def load(label, weight, *numbers):
+    return Load(label, Ratio.read(weight), list(numbers))
+
+
+def rows_of(book):
+    """The loads of a book as pairs of a weight, a Fraction, and a list of numbers."""
+    return [(fraction(item.weight), list(item.numbers)) for item in book.loads]
+
+
+def energy_of(book, direction):
+    """The energy of a book, a Fraction, by its definition."""
+    return sum((weight * sum(x * y for x, y in zip(numbers, direction)) ** 2
+                for weight, numbers in rows_of(book)), Fraction(0))
+
+
+def random_books(seed, many, width, most_loads=8, most=3):
+    """Books with some parallel loads, loads of zeros and dependent columns, the same ones in every run."""
+    random = Random(seed)
+    made = []
+    for _ in range(many):
+        base = [[random.randint(-most, most) for _ in range(width)] for _ in range(random.randint(0, width))]
+        loads = []
+        for k in range(random.randint(0, most_loads)):
+            shares = [random.randint(-2, 2) for _ in base]
+            numbers = [sum(share * row[j] for share, row in zip(shares, base)) for j in range(width)]
+            if random.random() < 0.3 and loads:
+                factor = random.choice((-2, -1, 1, 2, 3))
+                numbers = [factor * number for number in random.choice(loads).numbers]
+            loads.append(Load("a%d" % k, Ratio(random.randint(1, 9), random.randint(1, 5)), numbers))
+        made.append(Book(width, loads))
+    return made
+
+
+def directions(width, reach=2):
+    """All directions of small numbers."""
+    return [list(numbers) for numbers in product(range(-reach, reach + 1), repeat=width)]

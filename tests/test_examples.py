@@ -1,11 +1,15 @@
-"""The examples of the document that need nothing but exact numbers and grids."""
+"""The examples of the document that need nothing but exact numbers, grids, books and bars."""
 
 import unittest
 
+from fewcarry.books.book import Book
 from fewcarry.exact.errors import BadNumber
 from fewcarry.exact.ratio import Ratio
 from fewcarry.exact.simplest import simplest
 from fewcarry.exact.span import Span
+from fewcarry.grids.grid import Grid
+from fewcarry.grids.squares import squares_of
+from fewcarry.thins.bars import Bars
 
 
 class Examples(unittest.TestCase):
@@ -35,6 +39,25 @@ class Examples(unittest.TestCase):
         self.assertEqual(
             [c.text(), d.text(), b.divided(Span.point(Ratio(2))).text(), a.at_most(b), b.at_most(a), a.at_most(a)],
             ['[-4, 8]', '[1, 5]', '[3/2, 2]', True, False, None])
+
+    def test_squares(self):
+        terms = squares_of(Grid([[2, 1], [1, 2]])).terms
+        self.assertEqual(
+            [terms[0][0].text(), terms[0][1][1].text(), terms[1][0].text(), terms[1][1][0].text()],
+            ['2', '1/2', '3/2', '0'])
+
+    def test_book(self):
+        book = Book.read('book 2\na 1: 1 0\nb 1: 0 1\nc 1: 1 1')
+        self.assertEqual(
+            [book.energy([1, -2]).text(), book.pull('c').text(), book.without('c').rank(), book.core().over],
+            ['6', '2/3', 2, 1])
+
+    def test_bars(self):
+        bars = Bars(Ratio(2), 1)
+        self.assertEqual(
+            [bars.steps, bars.ceiling_step.text(), bars.ceiling(4).text(), bars.floor(4).text(), bars.factor.text(),
+             bars.finest(2)],
+            [4, '3', '18', '2', '9', 36])
 
 
 if __name__ == "__main__":

@@ -21,6 +21,14 @@ INTERFACE = {
     "grids/grid.py": ["Grid"],
     "grids/solving.py": ["determinant", "inverse", "solution", "independent_columns", "rank", "mixture"],
     "grids/updates.py": ["update_factor", "updated_inverse"],
+    "grids/squares.py": ["Squares", "squares_of"],
+    "grids/order.py": ["at_most", "is_above", "least_factor"],
+    "books/load.py": ["Load"],
+    "books/book.py": ["Book", "joined"],
+    "books/directions.py": ["strongest_direction"],
+    "books/recasting.py": ["condensed", "recast"],
+    "books/balance.py": ["balance", "power_of", "value_at"],
+    "thins/bars.py": ["Bars"],
 }
 METHODS = {
     "exact/ratio.py": "__init__ read __add__ __sub__ __mul__ __pow__ __neg__ __abs__ __eq__ divided raised compare "
@@ -28,12 +36,32 @@ METHODS = {
     "exact/span.py": "__init__ point __add__ __sub__ __mul__ __neg__ __and__ __eq__ __contains__ divided least "
                      "greatest length at_most text",
     "grids/grid.py": "__init__ of unit __add__ __sub__ __mul__ __eq__ __getitem__ scaled turned part form trace",
+    "grids/squares.py": "__init__ __len__ summed",
+    "books/load.py": "__init__ __eq__",
+    "books/book.py": "__init__ read __len__ __iter__ __contains__ __add__ __eq__ load scaled without reweighed energy "
+                     "square core columns rank reduced pull pulls text",
+    "thins/bars.py": "__init__ ceiling floor finest",
+}
+DOUBLE = {
+    "__init__", "__eq__", "__len__", "__iter__", "__add__", "__sub__", "__mul__", "__pow__", "__and__", "__neg__",
+    "__abs__", "__contains__", "__getitem__",
 }
 FUNCTIONS = (ast.FunctionDef, ast.AsyncFunctionDef)
 
 
 def parsed(path):
     return ast.parse(path.read_text(encoding="utf-8"))
+
+
+def bound_in(path):
+    """The names of the functions, classes and values of a module."""
+    names = set()
+    for item in parsed(path).body:
+        if isinstance(item, ast.Assign):
+            names.update(target.id for target in item.targets)
+        elif hasattr(item, "name"):
+            names.add(item.name)
+    return names
 
 
 class Files(unittest.TestCase):
@@ -74,8 +102,7 @@ class Code(unittest.TestCase):
                         self.assertLessEqual(names, LIBRARY[node.module], path)
                     else:
                         home = PACKAGE.parent / (node.module.replace(".", "/") + ".py")
-                        defined = {item.name for item in parsed(home).body if hasattr(item, "name")}
-                        self.assertLessEqual(names, defined, path)
+                        self.assertLessEqual(names, bound_in(home), path)
 
     def test_functions_have_at_most_40_lines(self):
         for path in FILES:
@@ -84,12 +111,26 @@ class Code(unittest.TestCase):
                     self.assertLessEqual(node.end_lineno - node.lineno + 1, 40, f"{path}: {node.name}")
 
     def test_nothing_that_the_subset_leaves_out(self):
-        barred = (ast.AsyncFunctionDef, ast.Div, ast.Global, ast.Await, ast.AsyncFor, ast.AsyncWith)
+        barred = (ast.AsyncFunctionDef, ast.Div, ast.Global, ast.Await, ast.AsyncFor, ast.AsyncWith, ast.AugAssign,
+                  ast.GeneratorExp, ast.AnnAssign)
         for path in FILES:
             for node in ast.walk(parsed(path)):
                 self.assertNotIsInstance(node, barred, path)
                 if isinstance(node, ast.Constant):
                     self.assertNotIsInstance(node.value, (float, complex), path)
+                    self.assertFalse(isinstance(node.value, str) and "%" in node.value, path)
+
+    def test_double_underscores(self):
+        for path in FILES:
+            for node in ast.walk(parsed(path)):
+                if isinstance(node, FUNCTIONS) and node.name.startswith("__"):
+                    self.assertIn(node.name, DOUBLE, path)
+
+    def test_only_errors_of_the_package_are_caught(self):
+        for path in FILES:
+            for node in ast.walk(parsed(path)):
+                if isinstance(node, ast.ExceptHandler):
+                    self.assertIn(node.type.id, bound_in(PACKAGE / "exact/errors.py"), path)
 
     def test_interface_is_defined_where_it_is_listed(self):
         for name, wanted in INTERFACE.items():

@@ -3,6 +3,7 @@
 from math import gcd
 
 from fewcarry.exact.errors import BadNumber, OutOfBounds, ZeroBottom
+from fewcarry.exact.whole import is_digits
 
 _MOST_CHARACTERS = 2000
 _MOST_EXPONENT = 64
@@ -26,9 +27,9 @@ class Ratio:
         if len(text) > _MOST_CHARACTERS:
             raise BadNumber(text)
         top, slash, bottom = text.partition("/")
-        if not _is_digits(top.removeprefix("-")):
+        if not is_digits(top.removeprefix("-")):
             raise BadNumber(text)
-        if slash and not _is_digits(bottom):
+        if slash and not is_digits(bottom):
             raise BadNumber(text)
         under = int(bottom) if slash else 1
         if under == 0:
@@ -104,8 +105,3 @@ class Ratio:
         if self.bottom == 1:
             return str(self.top)
         return f"{self.top}/{self.bottom}"
-
-
-def _is_digits(text):
-    # Other scripts have digits, too, and int would read them.
-    return text.isascii() and text.isdigit()

@@ -1,10 +1,11 @@
 """Tables of fractions, kept as rows of whole numbers over one whole number."""
 
-from math import gcd, lcm
+from math import lcm
 
+from fewcarry.exact.bottoms import common_bottom
 from fewcarry.exact.errors import BadPlace, BadShape, OutOfBounds
 from fewcarry.exact.ratio import Ratio
-from fewcarry.grids.rows import dot, turned_rows
+from fewcarry.grids.rows import common_divisor, dot, turned_rows
 
 _MOST_SIZE = 64
 
@@ -16,7 +17,7 @@ class Grid:
         _check_shape(rows)
         if over < 1:
             raise OutOfBounds(over)
-        divisor = _common_divisor(rows, over)
+        divisor = _shared_divisor(rows, over)
         self.rows = tuple([tuple([number // divisor for number in row]) for row in rows])
         self.over = over // divisor
         self.height = len(self.rows)
@@ -27,7 +28,7 @@ class Grid:
         """The grid with these entries, a list of rows of Ratios."""
         # Ahead of the common bottom, which many Ratios of a refused shape would make very long.
         _check_shape(ratios)
-        over = _common_bottom(ratios)
+        over = common_bottom([ratio for row in ratios for ratio in row])
         return cls([[ratio.top * (over // ratio.bottom) for ratio in row] for row in ratios], over)
 
     @staticmethod
@@ -108,20 +109,12 @@ def _check_places(places, many):
             raise BadPlace(place)
 
 
-def _common_divisor(rows, over):
+def _shared_divisor(rows, over):
     divisor = over
     for row in rows:
-        for number in row:
-            divisor = gcd(divisor, number)
+        # Row by row from `over` on, the divisor is mostly 1 soon, and the rest is quick.
+        divisor = common_divisor([divisor, *row])
     return divisor
-
-
-def _common_bottom(ratios):
-    bottom = 1
-    for row in ratios:
-        for ratio in row:
-            bottom = lcm(bottom, ratio.bottom)
-    return bottom
 
 
 def _added(a, b, sign):

@@ -1,5 +1,7 @@
 """Work on plain rows of whole numbers, of any number and length."""
 
+from math import gcd
+
 
 def dot(left, right):
     """The sum of the products of the numbers at equal places."""
@@ -9,6 +11,20 @@ def dot(left, right):
 def turned_rows(rows, width):
     """The columns of rows of `width` numbers, as rows."""
     return [[row[j] for row in rows] for j in range(width)]
+
+
+def common_divisor(row):
+    """The greatest whole number that divides all numbers of the row; 0 if there are none but zeros."""
+    divisor = 0
+    for number in row:
+        divisor = gcd(divisor, number)
+    return divisor
+
+
+def without_divisor(row):
+    """The row divided by the greatest whole number that divides all of it; a row of zeros stays."""
+    divisor = common_divisor(row)
+    return [number // divisor for number in row] if divisor > 1 else list(row)
 
 
 def eliminated(rows, width):
@@ -32,10 +48,21 @@ def eliminated(rows, width):
             table[done] = table[found]
             table[found] = given_up
         base = table[done]
-        table = [row if k == done else _cleared(row, base, column, pivot) for k, row in enumerate(table)]
+        table = [row if k == done else cleared(row, base, column, pivot) for k, row in enumerate(table)]
         pivot = base[column]
         places.append(column)
     return table, places, pivot
+
+
+def cleared(row, base, column, divisor):
+    """The row times the pivot of the base row, less the multiple of it that leaves 0 in the column.
+
+    The divisor is the pivot of the step before (Bareiss).
+    """
+    # All numbers stay minors of the first table, so the divisor leaves no rest.
+    pivot = base[column]
+    factor = row[column]
+    return [(pivot * x - factor * y) // divisor for x, y in zip(row, base)]
 
 
 def _first_place(table, start, column):
@@ -43,11 +70,3 @@ def _first_place(table, start, column):
         if table[k][column] != 0:
             return k
     return None
-
-
-def _cleared(row, base, column, divisor):
-    # All numbers stay minors of the first table, so the divisor, the pivot of the step before,
-    # leaves no rest.
-    pivot = base[column]
-    factor = row[column]
-    return [(pivot * x - factor * y) // divisor for x, y in zip(row, base)]

@@ -1,0 +1,1 @@
+"""Thinning: how a few rows with new weights are picked from a book."""

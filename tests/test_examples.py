@@ -1,4 +1,4 @@
-"""The examples of the document that need nothing but exact numbers, grids, books and bars."""
+"""The examples of the document, as far as the program goes."""
 
 import unittest
 
@@ -10,6 +10,8 @@ from fewcarry.exact.span import Span
 from fewcarry.grids.grid import Grid
 from fewcarry.grids.squares import squares_of
 from fewcarry.thins.bars import Bars
+from fewcarry.thins.exactly import exact_few
+from fewcarry.thins.thinning import Thinning
 
 
 class Examples(unittest.TestCase):
@@ -58,6 +60,16 @@ class Examples(unittest.TestCase):
             [bars.steps, bars.ceiling_step.text(), bars.ceiling(4).text(), bars.floor(4).text(), bars.factor.text(),
              bars.finest(2)],
             [4, '3', '18', '2', '9', 36])
+
+    def test_thinning(self):
+        thinning = Thinning(Book.read('book 1\na 1: 1\nb 1: 2'), Ratio(2))
+        choice = thinning.choices[0]
+        self.assertEqual(
+            [choice.label, choice.low.text(), choice.high.text(), choice.rate.text(), thinning.few.text()],
+            ['b', '4/15', '4/5', '1/2', 'book 1\nb 4: 2'])
+
+    def test_exactly(self):
+        self.assertEqual(exact_few(Book.read('book 1\na 1: 1\nb 1: 2')).text(), 'book 1\na 5: 1')
 
 
 if __name__ == "__main__":

@@ -29,18 +29,32 @@ INTERFACE = {
     "books/recasting.py": ["condensed", "recast"],
     "books/balance.py": ["balance", "power_of", "value_at"],
     "thins/bars.py": ["Bars"],
+    "thins/potentials.py": ["ceiling_potential", "floor_potential"],
+    "thins/scores.py": ["ceiling_score", "floor_score"],
+    "thins/stand.py": ["Choice", "Stand"],
+    "thins/thinning.py": ["Thinning"],
+    "thins/exactly.py": ["square_rank", "exact_few"],
+    "thins/fewest.py": ["Few", "fewest"],
+    "certificates/claim.py": ["Claim"],
+    "certificates/certificate.py": ["Certificate"],
 }
 METHODS = {
-    "exact/ratio.py": "__init__ read __add__ __sub__ __mul__ __pow__ __neg__ __abs__ __eq__ divided raised compare "
-                      "sign rounded_down rounded_up text",
-    "exact/span.py": "__init__ point __add__ __sub__ __mul__ __neg__ __and__ __eq__ __contains__ divided least "
-                     "greatest length at_most text",
-    "grids/grid.py": "__init__ of unit __add__ __sub__ __mul__ __eq__ __getitem__ scaled turned part form trace",
-    "grids/squares.py": "__init__ __len__ summed",
-    "books/load.py": "__init__ __eq__",
-    "books/book.py": "__init__ read __len__ __iter__ __contains__ __add__ __eq__ load scaled without reweighed energy "
-                     "square core columns rank reduced pull pulls text",
-    "thins/bars.py": "__init__ ceiling floor finest",
+    "Ratio": "__init__ read __add__ __sub__ __mul__ __pow__ __neg__ __abs__ __eq__ divided raised compare sign "
+             "rounded_down rounded_up text",
+    "Span": "__init__ point __add__ __sub__ __mul__ __neg__ __and__ __eq__ __contains__ divided least greatest "
+            "length at_most text",
+    "Grid": "__init__ of unit __add__ __sub__ __mul__ __eq__ __getitem__ scaled turned part form trace",
+    "Squares": "__init__ __len__ summed",
+    "Load": "__init__ __eq__",
+    "Book": "__init__ read __len__ __iter__ __contains__ __add__ __eq__ load scaled without reweighed energy square "
+            "core columns rank reduced pull pulls text",
+    "Bars": "__init__ ceiling floor finest",
+    "Choice": "__init__",
+    "Stand": "__init__ start potentials scores choice following",
+    "Thinning": "__init__ stands",
+    "Few": "__init__",
+    "Claim": "__init__ of low_grid high_grid",
+    "Certificate": "__init__ read __eq__ text",
 }
 DOUBLE = {
     "__init__", "__eq__", "__len__", "__iter__", "__add__", "__sub__", "__mul__", "__pow__", "__and__", "__neg__",
@@ -132,6 +146,13 @@ class Code(unittest.TestCase):
                 if isinstance(node, ast.ExceptHandler):
                     self.assertIn(node.type.id, bound_in(PACKAGE / "exact/errors.py"), path)
 
+    def test_no_other_function_has_the_name_of_a_generator(self):
+        functions = [node for path in FILES for node in ast.walk(parsed(path)) if isinstance(node, FUNCTIONS)]
+        yielding = (ast.Yield, ast.YieldFrom)
+        for function in functions:
+            if any(isinstance(node, yielding) for node in ast.walk(function)):
+                self.assertEqual([other.name for other in functions].count(function.name), 1, function.name)
+
     def test_interface_is_defined_where_it_is_listed(self):
         for name, wanted in INTERFACE.items():
             defined = [item.name for item in parsed(PACKAGE / name).body if hasattr(item, "name")]
@@ -139,11 +160,14 @@ class Code(unittest.TestCase):
                 self.assertIn(item, defined, name)
 
     def test_methods_stand_in_their_classes(self):
-        for name, wanted in METHODS.items():
-            classes = [item for item in parsed(PACKAGE / name).body if isinstance(item, ast.ClassDef)]
-            defined = [item.name for item in classes[0].body if isinstance(item, FUNCTIONS)]
-            for item in wanted.split():
-                self.assertIn(item, defined, name)
+        listed = [name for names in INTERFACE.values() for name in names]
+        self.assertEqual({name for name in listed if name[0].isupper()}, {*METHODS, "CarryError"})
+        for name, wanted in INTERFACE.items():
+            for item in parsed(PACKAGE / name).body:
+                if isinstance(item, ast.ClassDef) and item.name in wanted and item.name in METHODS:
+                    defined = [method.name for method in item.body if isinstance(method, FUNCTIONS)]
+                    for method in METHODS[item.name].split():
+                        self.assertIn(method, defined, name)
 
 
 if __name__ == "__main__":

@@ -1,0 +1,1 @@
+"""Claims that one book carries another one, and certificates that prove them."""

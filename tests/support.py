@@ -10,6 +10,8 @@ from fewcarry.exact.errors import CarryError
 from fewcarry.exact.ratio import Ratio
 from fewcarry.exact.span import Span
 from fewcarry.grids.grid import Grid
+from fewcarry.nets.line import Line
+from fewcarry.nets.net import Net
 
 
 def ratio(text):
@@ -122,3 +124,17 @@ def random_books(seed, many, width, most_loads=8, most=3):
 def directions(width, reach=2):
     """All directions of small numbers."""
     return [list(numbers) for numbers in product(range(-reach, reach + 1), repeat=width)]
+
+
+def random_nets(seed, many, most_nodes=5, most_lines=7):
+    """Nets with some pieces, rings and several lines between the same nodes, the same ones in every run."""
+    random = Random(seed)
+    made = []
+    for _ in range(many):
+        nodes = random.sample(["u", "v", "w", "x", "y", "z", "n1", "n2"], random.randint(2, most_nodes))
+        lines = []
+        for k in range(random.randint(0, most_lines)):
+            first, second = random.sample(nodes, 2)
+            lines.append(Line("e%d" % k, first, second, Ratio(random.randint(1, 9), random.randint(1, 4))))
+        made.append(Net(nodes, lines))
+    return made

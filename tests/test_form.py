@@ -37,6 +37,15 @@ INTERFACE = {
     "thins/fewest.py": ["Few", "fewest"],
     "certificates/claim.py": ["Claim"],
     "certificates/certificate.py": ["Certificate"],
+    "certificates/judging.py": ["judge", "check"],
+    "certificates/linking.py": ["chained", "beside", "scaled_claim", "chained_certificate", "beside_certificate",
+                                "scaled_certificate"],
+    "certificates/closest.py": ["least_high", "greatest_low", "determinant_span"],
+    "nets/line.py": ["Line"],
+    "nets/net.py": ["Net"],
+    "nets/pieces.py": ["pieces", "bridges"],
+    "nets/cuts.py": ["cut", "cut_lines"],
+    "nets/heights.py": ["heights", "currents", "power"],
 }
 METHODS = {
     "Ratio": "__init__ read __add__ __sub__ __mul__ __pow__ __neg__ __abs__ __eq__ divided raised compare sign "
@@ -55,6 +64,8 @@ METHODS = {
     "Few": "__init__",
     "Claim": "__init__ of low_grid high_grid",
     "Certificate": "__init__ read __eq__ text",
+    "Line": "__init__",
+    "Net": "__init__ read __len__ __iter__ __eq__ find_line as_book reweighed without with_line text",
 }
 DOUBLE = {
     "__init__", "__eq__", "__len__", "__iter__", "__add__", "__sub__", "__mul__", "__pow__", "__and__", "__neg__",

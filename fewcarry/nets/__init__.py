@@ -1,0 +1,1 @@
+"""Networks: nodes that lines of some strength join, treated as books."""

@@ -73,7 +73,8 @@ def potential_in(core, room):
 
 
 def ceiling_score(core, chosen, bar, next_bar, row, weight):
-    fall = potential_in(core, ceiling_room(core, chosen, bar)) - potential_in(core, ceiling_room(core, chosen, next_bar))
+    before = potential_in(core, ceiling_room(core, chosen, bar))
+    fall = before - potential_in(core, ceiling_room(core, chosen, next_bar))
     g = inverse_of(ceiling_room(core, chosen, next_bar))
     return weight * form_of(product_of(product_of(g, core), g), row) / fall + weight * form_of(g, row)
 

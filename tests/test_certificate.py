@@ -84,7 +84,8 @@ class Written(unittest.TestCase):
 
     def test_terms(self):
         got = Certificate.read(TEXT)
-        self.assertEqual(got.low_squares.terms, ((Ratio(3, 2), (Ratio(1), Ratio(-1, 4))), (Ratio(2), (Ratio(0), Ratio(1)))))
+        self.assertEqual(got.low_squares.terms,
+                         ((Ratio(3, 2), (Ratio(1), Ratio(-1, 4))), (Ratio(2), (Ratio(0), Ratio(1)))))
         self.assertEqual(got.high_squares.terms, ((Ratio(1, 7), (Ratio(5), Ratio(0))),))
 
     def test_squares_of_grids(self):

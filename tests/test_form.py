@@ -1,6 +1,7 @@
 """The form of the package: what shared/LANGUAGE.md asks of files, imports, names and sizes."""
 
 import ast
+import builtins
 import unittest
 from pathlib import Path
 
@@ -78,6 +79,20 @@ def parsed(path):
     return ast.parse(path.read_text(encoding="utf-8"))
 
 
+def names_in(function):
+    """The names of the parameters and the local variables of a function."""
+    parameters = [item.arg for item in ast.walk(function) if isinstance(item, ast.arg)]
+    return {*parameters, *[item.id for item in ast.walk(function)
+                           if isinstance(item, ast.Name) and isinstance(item.ctx, ast.Store)]}
+
+
+def imported_or_class(path):
+    """The names of the imports and the classes of a module."""
+    body = parsed(path).body
+    imports = [alias.name for item in body if isinstance(item, ast.ImportFrom) for alias in item.names]
+    return {*imports, *[item.name for item in body if isinstance(item, ast.ClassDef)]}
+
+
 def bound_in(path):
     """The names of the functions, classes and values of a module."""
     names = set()
@@ -150,6 +165,28 @@ class Code(unittest.TestCase):
             for node in ast.walk(parsed(path)):
                 if isinstance(node, FUNCTIONS) and node.name.startswith("__"):
                     self.assertIn(node.name, DOUBLE, path)
+
+    def test_no_local_name_is_that_of_something_else(self):
+        for path in FILES:
+            taken = imported_or_class(path) | set(dir(builtins))
+            for node in ast.walk(parsed(path)):
+                if isinstance(node, FUNCTIONS):
+                    self.assertEqual(names_in(node) & taken, set(), f"{path}: {node.name}")
+
+    def test_no_name_is_a_method_and_an_attribute_of_one_class(self):
+        for path in FILES:
+            for node in ast.walk(parsed(path)):
+                if isinstance(node, ast.ClassDef):
+                    methods = {item.name for item in node.body if isinstance(item, FUNCTIONS)}
+                    attributes = {item.attr for item in ast.walk(node)
+                                  if isinstance(item, ast.Attribute) and isinstance(item.ctx, ast.Store)}
+                    self.assertEqual(methods & attributes, set(), f"{path}: {node.name}")
+
+    def test_identity_is_asked_only_of_none_true_and_false(self):
+        for path in FILES:
+            for node in ast.walk(parsed(path)):
+                if isinstance(node, ast.Compare) and isinstance(node.ops[0], (ast.Is, ast.IsNot)):
+                    self.assertIsInstance(node.comparators[0], ast.Constant, f"{path}:{node.lineno}")
 
     def test_only_errors_of_the_package_are_caught(self):
         for path in FILES:

@@ -111,7 +111,8 @@ class Power(unittest.TestCase):
             self.assertEqual(fraction(got), sum((at[node] * push.get(node, 0) for node in at), ZERO))
             energy = sum((fraction(item.strength) * (at[item.first] - at[item.second]) ** 2 for item in net), ZERO)
             self.assertEqual(fraction(got), energy)
-            self.assertEqual(fraction(got), sum((flows[item.label] ** 2 / fraction(item.strength) for item in net), ZERO))
+            cost = sum((flows[item.label] ** 2 / fraction(item.strength) for item in net), ZERO)
+            self.assertEqual(fraction(got), cost)
             self.assertEqual(got, power_of(net.as_book(), [push.get(node, 0) for node in net.nodes]))
 
     def test_no_other_numbers_give_more(self):

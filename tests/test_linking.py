@@ -40,7 +40,8 @@ def thinning_chains():
             thinning = Thinning(book, ratio("3/2"))
             first = Claim.of(Few(thinning.few, thinning.factor), book)
             made.append((first, Claim.of(fewest(thinning.few, Ratio(2)), thinning.few)))
-            made.append((Claim.of(Few(exact_few(book), ONE), book), Claim(exact_few(book), exact_few(book), Ratio(0), Ratio(2))))
+            same = exact_few(book)
+            made.append((Claim.of(Few(same, ONE), book), Claim(same, same, Ratio(0), Ratio(2))))
             made.append((first, Claim(Book(width, []), thinning.few, Ratio(0), Ratio(0))))
     return made
 
@@ -203,7 +204,8 @@ class Scaled(unittest.TestCase):
         for first, second in CHAINS:
             for factor in ratios("1", "5/2", "1/9"):
                 for claim in (first, second):
-                    self.assertIs(check(scaled_claim(claim, factor), scaled_certificate(claim, judge(claim), factor)), True)
+                    got = scaled_certificate(claim, judge(claim), factor)
+                    self.assertIs(check(scaled_claim(claim, factor), got), True)
 
     def test_errors(self):
         first = Claim(B, A, Ratio(1), Ratio(5))

@@ -3,13 +3,13 @@
 import unittest
 from fractions import Fraction
 
+from fewcarry.books.book import Book
 from fewcarry.exact.errors import BadFactor, BadShape, Crossed, NotAbove, NotSymmetric, OutOfBars
 from fewcarry.exact.ratio import Ratio
 from fewcarry.grids.grid import Grid
 from fewcarry.thins.scores import ceiling_score, floor_score
 from tests import plain
 from tests.support import directions, entries, failure, fraction, load, random_books, random_grids, ratio
-from fewcarry.books.book import Book
 
 UNIT = Grid.unit(2)
 ZERO = Grid([[0, 0], [0, 0]])
@@ -125,7 +125,8 @@ class WhatTheyTell(unittest.TestCase):
             before = plain.potential_in(core, plain.floor_room(core, chosen, floor))
             for rise in (Fraction(1, 50), Fraction(1, 5), Fraction(1), Fraction(3)):
                 item = book.loads[0]
-                given = (grid_of(core), grid_of(chosen), of(floor), of(floor + rise), book.reduced(item.label), item.weight)
+                row = book.reduced(item.label)
+                given = grid_of(core), grid_of(chosen), of(floor), of(floor + rise), row, item.weight
                 fits = plain.is_above_zero(plain.floor_room(core, chosen, floor + rise))
                 seen.add((fits, rise * before < 1))
                 if fits:

@@ -7,7 +7,6 @@ from random import Random
 from fewcarry.books.book import Book
 from fewcarry.books.recasting import condensed, recast
 from fewcarry.exact.errors import BadShape, NotWhole, OutOfBounds
-from fewcarry.exact.ratio import Ratio
 from fewcarry.grids.grid import Grid
 from fewcarry.grids.solving import determinant
 from tests.support import directions, failure, fraction, load, random_books, random_grids

@@ -14,7 +14,7 @@ from fewcarry.thins.bars import Bars
 from fewcarry.thins.stand import Choice, Stand
 from fewcarry.thins.thinning import Thinning
 from tests import plain
-from tests.support import entries, failure, fraction, load, random_books, ratio, ratios, texts
+from tests.support import entries, failure, fraction, random_books, ratio, ratios, texts
 
 TWO = Ratio(2)
 AXES = Book.read("book 2\na 1: 1 0\nb 1: 0 1")

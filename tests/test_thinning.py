@@ -2,7 +2,6 @@
 
 import inspect
 import unittest
-from fractions import Fraction
 
 from fewcarry.books.book import Book
 from fewcarry.books.load import Load

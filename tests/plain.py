@@ -164,3 +164,122 @@ def exactly(book):
         if weight > handed:
             kept[item.label] = weight - handed
     return kept
+
+
+def solved(rows, right):
+    """The numbers that a square table turns into the right side."""
+    return [sum((x * y for x, y in zip(row, right)), ZERO) for row in inverse_of(rows)]
+
+
+def pieces_of(nodes, ends):
+    """A mark for each node, equal for the nodes of one piece."""
+    mark = {node: node for node in nodes}
+    for first, second in ends:
+        kept, gone = mark[first], mark[second]
+        mark = {node: kept if mark[node] == gone else mark[node] for node in nodes}
+    return mark
+
+
+def resistance(net, first, second):
+    """The resistance between two nodes of a piece, by the heights with 0 at the second node."""
+    mark = pieces_of(net.nodes, [(line.first, line.second) for line in net])
+    inner = [node for node in net.nodes if mark[node] == mark[second] and node != second]
+    table = [[ZERO] * len(inner) for _ in inner]
+    for line in net:
+        for node, other in ((line.first, line.second), (line.second, line.first)):
+            if node in inner:
+                table[inner.index(node)][inner.index(node)] += fraction(line.strength)
+                if other in inner:
+                    table[inner.index(node)][inner.index(other)] -= fraction(line.strength)
+    return solved(table, [Fraction(int(node == first)) for node in inner])[inner.index(first)]
+
+
+def forests(net):
+    """All sets of as many lines as the rank that join what the net joins, in order."""
+    whole = pieces_of(net.nodes, [(line.first, line.second) for line in net])
+    rank = len(net.nodes) - len(set(whole.values()))
+    found = []
+    for lines in combinations(net.lines, rank):
+        marks = pieces_of(net.nodes, [(line.first, line.second) for line in lines])
+        if len(set(marks.values())) == len(set(whole.values())):
+            found.append(tuple(line.label for line in lines))
+    return found
+
+
+def forest_weight(net, forest):
+    weight = Fraction(1)
+    for label in forest:
+        weight *= fraction(net.find_line(label).strength)
+    return weight
+
+
+def kind(value, many, start):
+    """The Chebyshev polynomial of the first kind for the start 1, of the second kind for 2."""
+    numbers = [Fraction(1), start * value]
+    while len(numbers) <= many:
+        numbers.append(2 * value * numbers[-1] - numbers[-2])
+    return numbers[many]
+
+
+def balance_of(book, push):
+    """The Fractions, 0 outside the independent columns, that the square grid of the book turns into the push."""
+    places = book.columns()
+    core = [[entries(book.square())[i][j] for j in places] for i in places]
+    numbers = [ZERO] * book.width
+    for place, number in zip(places, solved(core, [push[place] for place in places])):
+        numbers[place] = number
+    return numbers
+
+
+def rounds(few, whole, push, many):
+    """The numbers after 0, 1, .. up to `many` rounds."""
+    c = fraction(few.factor)
+    square = entries(whole.square())
+    found = [[ZERO] * whole.width]
+    for k in range(many):
+        x = found[-1]
+        rest = [number - sum((a * b for a, b in zip(row, x)), ZERO) for number, row in zip(push, square)]
+        z = balance_of(few.book, rest)
+        if k == 0:
+            found.append([2 * c / (c + 1) * number for number in z])
+        elif c == 1:
+            found.append([a + b for a, b in zip(x, z)])
+        else:
+            middle = (c + 1) / (c - 1)
+            before, now, after = [kind(middle, n, 1) for n in (k - 1, k, k + 1)]
+            found.append([2 * now / after * (middle * a + 2 * c / (c - 1) * b) - before / after * old
+                          for a, b, old in zip(x, z, found[-2])])
+    return found
+
+
+def energy_at(book, numbers):
+    """The energy for a list of Fractions."""
+    return sum((fraction(item.weight) * sum(x * y for x, y in zip(item.numbers, numbers)) ** 2
+                for item in book.loads), ZERO)
+
+
+def cost(book, shares):
+    return energy_at(book, [*shares, Fraction(-1)])
+
+
+def best_shares(book):
+    """The shares with the least cost, 0 for each given column that is a mixture of those ahead of it."""
+    columns = [[item.numbers[j] for item in book.loads] for j in range(book.width)]
+    weights = [fraction(item.weight) for item in book.loads]
+    given = columns[:-1]
+    places = [j for j in range(len(given)) if rank_of(given[:j + 1]) > rank_of(given[:j])]
+    normal = [[sum((w * x * y for w, x, y in zip(weights, columns[i], columns[j])), ZERO) for j in places]
+              for i in places]
+    right = [sum((w * x * y for w, x, y in zip(weights, columns[i], columns[-1])), ZERO) for i in places]
+    shares = [ZERO] * len(given)
+    for place, share in zip(places, solved(normal, right)):
+        shares[place] = share
+    return shares
+
+
+def volume(loads):
+    """The product of the weights times the square of the determinant of the given numbers."""
+    found = determinant_of([[Fraction(number) for number in item.numbers[:-1]] for item in loads]) ** 2
+    for item in loads:
+        found *= fraction(item.weight)
+    return found

@@ -4,6 +4,7 @@ from fewcarry.certificates.certificate import Certificate
 from fewcarry.certificates.claim import Claim
 from fewcarry.certificates.judging import check
 from fewcarry.exact.errors import BadLink, Unfit
+from fewcarry.exact.extremes import greater, lesser
 from fewcarry.exact.ratio import Ratio
 from fewcarry.grids.squares import Squares
 
@@ -29,7 +30,7 @@ def chained_certificate(first, one, second, two):
 def beside(first, second):
     """The claim that the few of both claims together carry the wholes of both together."""
     few = first.few + second.few
-    return Claim(few, first.whole + second.whole, _lesser(first.low, second.low), _greater(first.high, second.high))
+    return Claim(few, first.whole + second.whole, lesser(first.low, second.low), greater(first.high, second.high))
 
 
 def beside_certificate(first, one, second, two):
@@ -79,11 +80,3 @@ def _times(terms, factor):
 
 def _terms_of(book):
     return [(load.weight, [Ratio(number) for number in load.numbers]) for load in book]
-
-
-def _lesser(a, b):
-    return a if a.compare(b) <= 0 else b
-
-
-def _greater(a, b):
-    return a if a.compare(b) >= 0 else b

@@ -1,6 +1,7 @@
 """Spans: all numbers from one fraction to another one."""
 
 from fewcarry.exact.errors import Apart, Crossed, ZeroBottom
+from fewcarry.exact.extremes import greater, lesser
 from fewcarry.exact.ratio import Ratio
 
 
@@ -31,8 +32,8 @@ class Span:
         return Span(-self.high, -self.low)
 
     def __and__(self, other):
-        low = _greater(self.low, other.low)
-        high = _lesser(self.high, other.high)
+        low = greater(self.low, other.low)
+        high = lesser(self.high, other.high)
         if low.compare(high) > 0:
             raise Apart()
         return Span(low, high)
@@ -51,11 +52,11 @@ class Span:
 
     def least(self, other):
         """The span of the lesser of a number of this span and one of the other."""
-        return Span(_lesser(self.low, other.low), _lesser(self.high, other.high))
+        return Span(lesser(self.low, other.low), lesser(self.high, other.high))
 
     def greatest(self, other):
         """The span of the greater of a number of this span and one of the other."""
-        return Span(_greater(self.low, other.low), _greater(self.high, other.high))
+        return Span(greater(self.low, other.low), greater(self.high, other.high))
 
     def length(self):
         """The high end less the low end, a Ratio."""
@@ -74,18 +75,10 @@ class Span:
         return f"[{self.low.text()}, {self.high.text()}]"
 
 
-def _lesser(a, b):
-    return a if a.compare(b) <= 0 else b
-
-
-def _greater(a, b):
-    return a if a.compare(b) >= 0 else b
-
-
 def _around(ratios):
     # Products and quotients take their extremes at the ends of the spans.
     low = high = ratios[0]
     for ratio in ratios:
-        low = _lesser(low, ratio)
-        high = _greater(high, ratio)
+        low = lesser(low, ratio)
+        high = greater(high, ratio)
     return Span(low, high)

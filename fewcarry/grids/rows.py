@@ -54,6 +54,12 @@ def eliminated(rows, width):
     return table, places, pivot
 
 
+def determinant_of(rows):
+    """The determinant of as many rows as they have numbers; 1 if there are none."""
+    _, places, pivot = eliminated(rows, len(rows))
+    return pivot if len(places) == len(rows) else 0
+
+
 def cleared(row, base, column, divisor):
     """The row times the pivot of the base row, less the multiple of it that leaves 0 in the column.
 

@@ -3,20 +3,17 @@
 from fewcarry.exact.errors import BadPlace, BadShape, NoInverse
 from fewcarry.exact.ratio import Ratio
 from fewcarry.grids.grid import Grid
-from fewcarry.grids.rows import eliminated
+from fewcarry.grids.rows import determinant_of, eliminated
 from fewcarry.grids.symmetry import check_square
 
 
 def determinant(grid):
     """The determinant, a Ratio; 1 for the grid without rows."""
     check_square(grid)
-    _, places, pivot = eliminated(grid.rows, grid.width)
-    if len(places) < grid.height:
-        return Ratio(0)
     bottom = 1
     for _ in range(grid.height):
         bottom = bottom * grid.over
-    return Ratio(pivot, bottom)
+    return Ratio(determinant_of(grid.rows), bottom)
 
 
 def inverse(grid):

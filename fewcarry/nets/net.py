@@ -71,7 +71,7 @@ class Net:
     def as_book(self):
         """The book with a column for each node, and for each line a load with 1 and -1 at its ends."""
         if self._book is None:
-            self._book = Book(len(self.nodes), [self._load_of(line) for line in self.lines])
+            self._book = Book(len(self.nodes), [self.load_of(line) for line in self.lines])
         return self._book
 
     def reweighed(self, strengths):
@@ -94,7 +94,8 @@ class Net:
         """The written form: the nodes, and a line of the text for each line of the net."""
         return "\n".join([" ".join(["nodes", *self.nodes]), *[written_line(line) for line in self.lines]])
 
-    def _load_of(self, line):
+    def load_of(self, line):
+        """The load of the book that stands for a line between nodes of the net."""
         numbers = [0 for _ in self.nodes]
         numbers[self.place_of(line.first)] = 1
         numbers[self.place_of(line.second)] = -1

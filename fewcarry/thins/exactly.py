@@ -11,7 +11,7 @@ def square_rank(book):
     frame = Frame(most_squares(book.rank()))
     many = 0
     for load in book:
-        shares = frame.shares(_squares(book.reduced(load.label)))
+        shares = frame.shares_of(_squares(book.reduced(load.label)))
         place = frame.free_place(shares)
         if place is not None:
             frame.keep(place, shares)
@@ -47,7 +47,7 @@ class Reduction:
 
     def take_in(self, load, squares):
         """Take in the next load."""
-        shares = self._frame.shares(squares)
+        shares = self._frame.shares_of(squares)
         place = self._frame.free_place(shares)
         if place is not None:
             self._keep(place, shares, load.label, load.weight)

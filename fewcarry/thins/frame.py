@@ -17,7 +17,7 @@ class Frame:
         self._pivot = 1
         self._taken = [False for _ in range(width)]
 
-    def shares(self, row):
+    def shares_of(self, row):
         """The multiples, one for each place, whose sum is the row: whole numbers, all times the pivot."""
         return [dot(line, row) for line in self._table]
 

@@ -1,14 +1,24 @@
-"""The examples of the document, as far as the program goes."""
+"""The examples of the document."""
 
 import unittest
 
 from fewcarry.books.book import Book
-from fewcarry.exact.errors import BadNumber
+from fewcarry.desk.desk import Desk
+from fewcarry.desk.question import Question
+from fewcarry.exact.errors import BadNumber, BadQuestion
 from fewcarry.exact.ratio import Ratio
 from fewcarry.exact.simplest import simplest
 from fewcarry.exact.span import Span
+from fewcarry.fits.fit import Fit
+from fewcarry.fits.means import mean_cost, mean_shares
 from fewcarry.grids.grid import Grid
 from fewcarry.grids.squares import squares_of
+from fewcarry.nets.forests import forest_weight
+from fewcarry.nets.heights import heights
+from fewcarry.nets.net import Net
+from fewcarry.nets.resistance import resistance
+from fewcarry.rounds.doubts import doubt
+from fewcarry.rounds.kinds import first_kind
 from fewcarry.thins.bars import Bars
 from fewcarry.thins.exactly import exact_few
 from fewcarry.thins.thinning import Thinning
@@ -70,6 +80,36 @@ class Examples(unittest.TestCase):
 
     def test_exactly(self):
         self.assertEqual(exact_few(Book.read('book 1\na 1: 1\nb 1: 2')).text(), 'book 1\na 5: 1')
+
+    def test_net(self):
+        net = Net.read('nodes a b c\nx a b 1\ny b c 1\nz a c 1')
+        h = heights(net, {'a': 3, 'c': -3})
+        self.assertEqual(
+            [resistance(net, 'a', 'b').text(), forest_weight(net).text(), h['a'].text(), h['b'].text(), h['c'].text()],
+            ['2/3', '3', '2', '1', '0'])
+
+    def test_rounds(self):
+        self.assertEqual([first_kind(Ratio(5, 4), 2).text(), doubt(Ratio(9), 1).text(), doubt(Ratio(9), 2).text()],
+                         ['17/8', '16/25', '64/289'])
+
+    def test_fit(self):
+        book = Book.read('book 2\na 1: 1 1\nb 1: 1 3')
+        fit = Fit(book)
+        self.assertEqual(
+            [fit.shares[0].text(), fit.least_cost.text(), mean_shares(book)[0].text(), mean_cost(book).text()],
+            ['2', '2', '2', '4'])
+
+    def test_desk(self):
+        desk = Desk.replayed(['book a 1 2 9', 'put a x 1 1', 'put a y 1 2', 'thin a'])
+        self.assertEqual(
+            [desk.summary_of('a').book.text(), desk.ask(Question('2 * energy a [ 1 ]')).text(),
+             desk.exact(Question('energy a [ 1 ] <= 5'))],
+            ['book 1\nx 5: 1', '[10, 10]', True])
+
+    def test_question(self):
+        with self.assertRaises(BadQuestion) as caught:
+            Question('energy a [ 1 2')
+        self.assertEqual(caught.exception.place, 5)
 
 
 if __name__ == "__main__":

@@ -1,0 +1,1 @@
+"""Streams: few loads kept for books that grow and change."""

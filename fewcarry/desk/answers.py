@@ -22,8 +22,8 @@ def answered(question, things, from_wholes):
         else:
             second = values.pop()
             first = values.pop()
-            join = _SIGNS[step]
-            values.append(join(first, second))
+            combine = _SIGNS[step]
+            values.append(combine(first, second))
     return values[0]
 
 
